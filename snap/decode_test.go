@@ -259,31 +259,3 @@ func checkSame(t *testing.T, b []byte) bool {
 	}
 	return true
 }
-
-// TestOtherPanicsGoOn: what reading gives up by is told, what anything else panics by is not held back.
-func TestOtherPanicsGoOn(t *testing.T) {
-	if f, ok := fault(unreadable{at: 7}).(*api.Fault); !ok || *f != (api.Fault{At: 7, Err: api.ErrCode}) {
-		t.Errorf("what reading gave up by at 7 is told as %+v", f)
-	}
-	for _, p := range []any{"unreadable", 7, api.ErrCode, errors.New("other"), &unreadable{}, struct{ at int }{7}} {
-		func() {
-			defer func() {
-				if got := recover(); got != p {
-					t.Errorf("the panic %#v went on as %#v", p, got)
-				}
-			}()
-			t.Errorf("the panic %#v is told as %v", p, fault(p))
-		}()
-	}
-}
-
-// TestReadingGivesUp: what can't be read is told by a panic inside.
-func TestReadingGivesUp(t *testing.T) {
-	defer func() {
-		if p := recover(); p != (unreadable{at: 2}) {
-			t.Errorf("reading gave up by %#v", p)
-		}
-	}()
-	readStore([]byte{83, 0})
-	t.Errorf("reading did not give up")
-}

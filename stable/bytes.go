@@ -5,6 +5,7 @@ import (
 
 	"scriptorium/api"
 	"scriptorium/crc"
+	"scriptorium/parts"
 	"scriptorium/snap"
 )
 
@@ -12,36 +13,23 @@ import (
 const sumBytes = 4
 
 func hardBytes(term, vote int) []byte {
-	return sealed(putNumbers(nil, term, vote))
+	return sealed(parts.PutNumbers(nil, term, vote))
 }
 
 func snapBytes(x api.Snap) []byte {
-	b := putGroup(putNumbers(nil, x.Index, x.Term), x.Nodes)
-	return sealed(snap.PutText(b, string(x.Data)))
+	return sealed(parts.PutSnap(nil, x))
 }
 
 // record leaves an entry's Index out, as the record's number tells it.
 func record(e api.Entry) []byte {
-	b := putNumbers(nil, e.Term, e.Kind)
+	b := parts.PutNumbers(nil, e.Term, e.Kind)
 	switch e.Kind {
 	case api.KindCommand:
 		b = append(b, e.Data...)
 	case api.KindNodes:
-		b = putGroup(b, e.Nodes)
+		b = parts.PutGroup(b, e.Nodes)
 	}
 	return b
-}
-
-// putNumbers writes numbers that are not below 0.
-func putNumbers(b []byte, numbers ...int) []byte {
-	for _, n := range numbers {
-		b = snap.PutNumber(b, uint64(n))
-	}
-	return b
-}
-
-func putGroup(b []byte, nodes []int) []byte {
-	return putNumbers(putNumbers(b, len(nodes)), nodes...)
 }
 
 // sealed is b and its sum, the lowest byte first.

@@ -2,6 +2,7 @@ package stable
 
 import (
 	"scriptorium/api"
+	"scriptorium/parts"
 	"scriptorium/wal"
 )
 
@@ -23,7 +24,7 @@ func (s *Stable) readHard(saved *api.Saved) api.Errno {
 
 func (s *Stable) readSnap(x *api.Snap) api.Errno {
 	return s.readFile(snapFile, func(r *reader) {
-		x.Index = r.number(1, maxSnapIndex)
+		x.Index = r.number(1, parts.MaxSnapIndex)
 		x.Term = r.number(0, api.MaxTerm)
 		x.Nodes = r.group()
 		x.Data = r.text(api.MaxState)

@@ -1,0 +1,50 @@
+// Package parts is what nodes save and what they send alike: groups, entries and snapshots (shared/doc/16-stable.md), which of them may be, and how they are written.
+package parts
+
+import "scriptorium/api"
+
+// MaxSnapIndex leaves a number above it at which the log may begin.
+const MaxSnapIndex = api.MaxIndex - 1
+
+// Within tells whether n is neither below the least nor above the most.
+func Within(n, least, most int) bool {
+	return least <= n && n <= most
+}
+
+// IsNode tells whether a node has this number.
+func IsNode(n int) bool {
+	return Within(n, 1, api.MaxNodes)
+}
+
+// IsGroup tells whether these are a group: as they rise between bounds, there are not too many.
+func IsGroup(nodes []int) bool {
+	last := 0
+	for _, node := range nodes {
+		if !IsNode(node) || node <= last {
+			return false
+		}
+		last = node
+	}
+	return len(nodes) > 0
+}
+
+// MayBeSnap tells of one that is written: that of the Index 0 never is.
+func MayBeSnap(x api.Snap) bool {
+	return Within(x.Index, 1, MaxSnapIndex) && Within(x.Term, 0, api.MaxTerm) && IsGroup(x.Nodes) && len(x.Data) <= api.MaxState
+}
+
+// MayBeEntry leaves the Index to what it is held against.
+func MayBeEntry(e api.Entry) bool {
+	if !Within(e.Term, 1, api.MaxTerm) {
+		return false
+	}
+	switch e.Kind {
+	case api.KindNone:
+		return len(e.Data) == 0 && len(e.Nodes) == 0
+	case api.KindCommand:
+		return len(e.Data) <= api.MaxData && len(e.Nodes) == 0
+	case api.KindNodes:
+		return len(e.Data) == 0 && IsGroup(e.Nodes)
+	}
+	return false
+}
