@@ -162,6 +162,25 @@ func TestAlone(t *testing.T) {
 	}
 }
 
+// Numbers up to the greatest there is; one that is none is told as nothing.
+func TestNumberAlone(t *testing.T) {
+	for _, n := range []uint64{0, 127, 128, 1<<32 - 1, 1 << 32, 1<<63 - 1, 1 << 63, 1<<63 + 1, 1<<64 - 1} {
+		b := binary.AppendUvarint(nil, n)
+		if got, size := Number(append(b, 0x81)); got != n || size != len(b) {
+			t.Errorf("Number(%v) is %d, %d, not %d, %d", b, got, size, n, len(b))
+		}
+	}
+	nines := strings.Repeat("\xff", 9)
+	for _, b := range []string{"", "\x80", "\x81", "\x81\x00", "\xff\x80\x00", nines, nines + "\x00", nines + "\x02", nines + "\x7f", nines + "\x80", nines + "\x81\x00", nines + "\xff\x01"} {
+		if got, size := Number([]byte(b)); got != 0 || size != 0 {
+			t.Errorf("Number(%q) is %d, %d", b, got, size)
+		}
+		if got, size := Text([]byte(b), math.MaxInt); got != "" || size != 0 {
+			t.Errorf("Text(%q) is %q, %d", b, got, size)
+		}
+	}
+}
+
 // What is handed in stays, and what was read does not hang on it.
 func TestMemory(t *testing.T) {
 	b := []byte("\x03abcd")
