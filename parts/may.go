@@ -48,3 +48,15 @@ func MayBeEntry(e api.Entry) bool {
 	}
 	return false
 }
+
+// GoOn tells whether these are entries that go on from an Index, with terms that do not fall from one on, and none above most. None has an Index that no record has: nobody could save it.
+func GoOn(l []api.Entry, index, term, most int) bool {
+	for _, e := range l {
+		index++
+		if !MayBeEntry(e) || e.Index != index || !Within(index, 1, api.MaxIndex) || !Within(e.Term, term, most) {
+			return false
+		}
+		term = e.Term
+	}
+	return true
+}

@@ -108,3 +108,39 @@ func TestMayBeEntry(t *testing.T) {
 		}
 	}
 }
+
+// A run of entries at each bound, and one beyond it.
+func TestGoOn(t *testing.T) {
+	for _, c := range []struct {
+		l                 []api.Entry
+		index, term, most int
+		want              bool
+	}{
+		{nil, 0, 0, 0, true}, {nil, 999999, 9, 1, true}, {nil, math.MaxInt, 0, 0, true},
+		{[]api.Entry{{Index: 1, Term: 1}}, 0, 0, 1, true},
+		{[]api.Entry{{Index: 1, Term: 1}}, 0, 1, 1, true},
+		{[]api.Entry{{Index: 1, Term: 1}}, 0, 2, 2, false},
+		{[]api.Entry{{Index: 1, Term: 1}}, 0, 0, 0, false},
+		{[]api.Entry{{Index: 1, Term: 0}}, 0, 0, 1, false},
+		{[]api.Entry{{Index: 1, Term: 1, Data: []byte("x")}}, 0, 0, 1, false},
+		{[]api.Entry{{Index: 1, Term: 1}}, 1, 0, 1, false},
+		{[]api.Entry{{Index: 2, Term: 1}}, 0, 0, 1, false},
+		{[]api.Entry{{Index: 0, Term: 1}}, -1, 0, 1, false},
+		{[]api.Entry{{Index: math.MinInt, Term: 1}}, math.MaxInt, 0, 1, false},
+		{[]api.Entry{{Index: 999999, Term: 1}}, 999998, 0, 1, true},
+		{[]api.Entry{{Index: 1000000, Term: 1}}, 999999, 0, 1, false},
+		{[]api.Entry{{Index: 999999, Term: 1}, {Index: 1000000, Term: 1}}, 999998, 0, 1, false},
+		{[]api.Entry{{Index: 6, Term: 2}, {Index: 7, Term: 2}, {Index: 8, Term: 5}}, 5, 2, 5, true},
+		{[]api.Entry{{Index: 6, Term: 2}, {Index: 7, Term: 2}, {Index: 8, Term: 6}}, 5, 2, 5, false},
+		{[]api.Entry{{Index: 6, Term: 2}, {Index: 7, Term: 1}, {Index: 8, Term: 5}}, 5, 1, 5, false},
+		{[]api.Entry{{Index: 6, Term: 2}, {Index: 8, Term: 2}}, 5, 2, 5, false},
+		{[]api.Entry{{Index: 6, Term: 2}, {Index: 6, Term: 2}}, 5, 2, 5, false},
+		{[]api.Entry{{Index: 6, Term: 2}, {Index: 5, Term: 2}}, 5, 2, 5, false},
+		{[]api.Entry{{Index: 6, Term: 2, Kind: 1, Data: []byte("x")}, {Index: 7, Term: 3, Kind: 2, Nodes: []int{1}}}, 5, 2, 3, true},
+		{[]api.Entry{{Index: 6, Term: 2, Kind: 1, Data: []byte("x")}, {Index: 7, Term: 3, Kind: 2}}, 5, 2, 3, false},
+	} {
+		if GoOn(c.l, c.index, c.term, c.most) != c.want {
+			t.Errorf("%v from %d, %d, to %d: %v", c.l, c.index, c.term, c.most, !c.want)
+		}
+	}
+}

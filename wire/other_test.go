@@ -198,7 +198,7 @@ func otherRight(m api.Letter) bool {
 	wrong += beyond(len(m.Entries), 0, 4)
 	last := api.Entry{Index: m.Index, Term: m.LogTerm}
 	for _, e := range m.Entries {
-		wrong += beyond(e.Term, max(1, last.Term), m.Term) + beyond(e.Index-last.Index, 1, 1) + wrongBody(e)
+		wrong += beyond(e.Term, max(1, last.Term), m.Term) + beyond(e.Index-last.Index, 1, 1) + beyond(e.Index, 1, 999999) + wrongBody(e)
 		last = e
 	}
 	if m.Kind == 5 {

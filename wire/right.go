@@ -22,24 +22,11 @@ func mayBe(m api.Letter) bool {
 	case api.LAsk, api.LVote, api.LAnswer:
 		return true
 	case api.LAppend:
-		return len(m.Entries) <= api.MaxBatch && goOn(m)
+		return len(m.Entries) <= api.MaxBatch && parts.GoOn(m.Entries, m.Index, m.LogTerm, m.Term)
 	case api.LInstall:
 		return parts.MayBeSnap(m.Snap) && m.Snap.Term <= m.Term
 	}
 	return false
-}
-
-// goOn tells whether the entries go on from where the letter says.
-func goOn(m api.Letter) bool {
-	index, term := m.Index, m.LogTerm
-	for _, e := range m.Entries {
-		index++
-		if !parts.MayBeEntry(e) || e.Index != index || !parts.Within(e.Term, term, m.Term) {
-			return false
-		}
-		term = e.Term
-	}
-	return true
 }
 
 // rest is what is left of a letter without what its Kind has.

@@ -252,10 +252,34 @@ func TestTermsThatDoNotFall(t *testing.T) {
 	}
 }
 
-// The Index of an entry has no bound but that it goes on.
+// No entry has an Index above MaxIndex, wherever it stands among others; up to there each has one.
 func TestEntriesBehindMaxIndex(t *testing.T) {
-	m := appending(7, 999999, 2, 0, 0, none(1000000, 3), none(1000001, 3))
-	checkEncode(t, m, string(written(fields(m))))
+	kinds := []func(index int) api.Entry{
+		func(index int) api.Entry { return none(index, 3) },
+		func(index int) api.Entry { return command(index, 3, "x") },
+		func(index int) api.Entry { return grouping(index, 3, 1, 2) },
+	}
+	for index := 999994; index <= 999999; index++ {
+		for size := range 5 {
+			m := appending(7, index, 2, 0, 0)
+			for i := range size {
+				m.Entries = append(m.Entries, kinds[i%3](index+1+i))
+			}
+			if index+size <= 999999 {
+				checkEncode(t, m, string(written(fields(m))))
+				continue
+			}
+			checkWrong(t, m)
+			b := written(fields(m))
+			checkFault(t, b, 0)
+			checkFault(t, append(b, 0), len(b))
+		}
+	}
+	for _, kind := range kinds {
+		m := appending(7, 999999, 2, 0, 0, kind(1000000))
+		checkWrong(t, m)
+		checkFault(t, written(fields(m)), 0)
+	}
 	checkWrong(t, appending(7, 1000000, 2, 0, 0, none(1000001, 3)))
 	checkWrong(t, appending(7, math.MaxInt, 2, 0, 0, none(math.MinInt, 3)))
 	checkWrong(t, appending(7, -1, 2, 0, 0, none(0, 3)))
