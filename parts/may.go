@@ -28,6 +28,11 @@ func IsGroup(nodes []int) bool {
 	return len(nodes) > 0
 }
 
+// MayBeHard tells of a term, and of whom was voted for in it.
+func MayBeHard(term, vote int) bool {
+	return Within(term, 0, api.MaxTerm) && Within(vote, 0, api.MaxNodes)
+}
+
 // MayBeSnap tells of one that is written: that of the Index 0 never is.
 func MayBeSnap(x api.Snap) bool {
 	return Within(x.Index, 1, MaxSnapIndex) && Within(x.Term, 0, api.MaxTerm) && IsGroup(x.Nodes) && len(x.Data) <= api.MaxState

@@ -63,6 +63,17 @@ func TestIsGroup(t *testing.T) {
 	}
 }
 
+func TestMayBeHard(t *testing.T) {
+	numbers := []int{math.MinInt, -1, 0, 1, 4, 5, 6, 7, 257, 999998, 999999, 1000000, math.MaxInt}
+	for _, term := range numbers {
+		for _, vote := range numbers {
+			if want := term >= 0 && term <= 999999 && vote >= 0 && vote <= 5; MayBeHard(term, vote) != want {
+				t.Errorf("the term %d and the vote %d: %v", term, vote, !want)
+			}
+		}
+	}
+}
+
 func TestMayBeSnap(t *testing.T) {
 	good := api.Snap{Index: 1, Term: 1, Nodes: []int{1}}
 	with := func(change func(x *api.Snap)) api.Snap {

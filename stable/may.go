@@ -5,10 +5,6 @@ import (
 	"scriptorium/parts"
 )
 
-func mayBeHard(term, vote int) bool {
-	return parts.Within(term, 0, api.MaxTerm) && parts.Within(vote, 0, api.MaxNodes)
-}
-
 // goOn tells whether these are entries, each of the Index behind that of the one ahead.
 func goOn(l []api.Entry) bool {
 	for i, e := range l {
